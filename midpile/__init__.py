@@ -1,0 +1,1 @@
+"""Midpile: the share of a row that two piles keep."""
