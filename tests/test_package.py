@@ -21,7 +21,10 @@ UNUSED_WORDS = ["type", "typing", "typing_extensions", "enum", "Enum", "IntEnum"
 
 ASKED = """
 from midpile.errors import NoShare
+from midpile.piles import Pile, Turned
 from midpile.places import place
+from midpile.rows import Midrow
+from midpile.sliding import slide
 for many in [0, 1, 2, 9, 10, 10 ** 60 - 1]:
     for part in range(-2, 6):
         for whole in range(-2, 6):
@@ -29,6 +32,20 @@ for many in [0, 1, 2, 9, 10, 10 ** 60 - 1]:
                 print(place(many, part, whole))
             except NoShare:
                 print("NoShare")
+numbers = [each * each * 7919 % 1009 - 500 for each in range(200)]
+for pile in [Pile(), Turned()]:
+    for coming in range(200):
+        pile.put((numbers[coming], coming))
+        print(pile.told(), pile.top(), pile.weight())
+    for coming in range(0, 200, 3):
+        print(pile.take(coming), pile.told())
+row = Midrow()
+for number in numbers:
+    print(row.put(number), row.share(), row.piles(), row.burden())
+for coming in range(1, 200, 3):
+    row.turn(coming, 200)
+    print(row.take(coming), row.oldest(), row.share(), row.piles(), row.burden())
+print(slide(numbers, 9), slide(numbers, 10, 2, 3))
 """
 
 
@@ -97,7 +114,7 @@ class SameEverywhereTest(unittest.TestCase):
         with tempfile.TemporaryDirectory() as bare:
             told = [told_by_new_process("0", ROOT), told_by_new_process("1", bare), told_by_new_process("77", bare)]
             self.assertEqual(os.listdir(bare), [])
-        self.assertEqual(len(told[0].splitlines()), 6 * 8 * 8)
+        self.assertEqual(len(told[0].splitlines()), 6 * 8 * 8 + 2 * (200 + 67) + 200 + 67 + 1)
         self.assertEqual(told[1], told[0])
         self.assertEqual(told[2], told[0])
 
